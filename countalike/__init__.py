@@ -1,0 +1,1 @@
+"""Countalike: questions to tables that always count the same."""
