@@ -4,6 +4,7 @@ import itertools
 import random
 import signal
 
+from countalike.books import Book, Capped, CappedMirror, Mirrored
 from countalike.errors import CountError, NoRows
 from countalike.questions import Question, ways
 from countalike.tables import Table
@@ -24,7 +25,8 @@ def no_integers():
         True, False, None, "", "0", "1", "A", "B 1 2 1\n", "A01", [], [1], ["A", 0, 1], (), (1,), (0, 1), {}, {1: 1},
         {"A": 0}, [True], (True,), ((1,),), [[1]], {"rows": [("A", 0, 1, 1)]}, deep(20), [1] * 8000, Table(),
         Table(("A", 0, 1, 1)), Question(("A", 0, 1)), NoRows("no"), ways(Question(("A", 0, 1)), Table()), Table,
-        Question,
+        Question, Book(Table()), Mirrored(Table(("A", 1, 1, 1))), Capped(Table(), 5), CappedMirror(Table()),
+        Book(Table()).trying(), Book,
     ]
 
 
@@ -62,7 +64,15 @@ def picture(thing):
         return "Table", picture(thing.rows), thing.text()
     if isinstance(thing, Question):
         return "Question", picture(thing.atoms), picture(thing.variables), thing.hangs
+    if isinstance(thing, Book):
+        return picture_of_book(thing)
     return type(thing).__name__, repr(thing)
+
+
+def picture_of_book(book):
+    """All that can be read from a book."""
+    shown = [book.table, book.questions, book.counts, book.changes, len(book), getattr(book, "most", None)]
+    return repr(book), picture(shown)
 
 
 def check_refused(test, error, call, *arguments):
@@ -89,6 +99,24 @@ def random_table(dice, many, greatest, most_often=10, kinds=KINDS):
 def random_question(dice, many, variables, kinds=KINDS):
     """A question with so many atoms over some of these variables."""
     return Question(*[(dice.choice(kinds), dice.choice(variables), dice.choice(variables)) for turn in range(many)])
+
+
+def ways_by_values(question, table):
+    """The ways with their weights, by trying all values of the table for all variables."""
+    values = sorted({value for row in table.rows for value in row[1:3]})
+    found = []
+    for way in itertools.product(values, repeat=len(question.variables)):
+        worth = dict(zip(question.variables, way))
+        weight = 1
+        for kind, left, right in question.atoms:
+            weight *= table[kind, worth[left], worth[right]]
+        if weight:
+            found.append((way, weight))
+    return found
+
+
+def count_by_values(question, table):
+    return sum(weight for way, weight in ways_by_values(question, table))
 
 
 def dice(seed):

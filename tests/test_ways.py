@@ -7,28 +7,16 @@ import unittest
 from countalike.errors import NoQuestion, NoTable
 from countalike.questions import Question, ways
 from countalike.tables import Table
-from tests.samples import Within, any_values, check_refused, dice, picture, random_question, random_table
+from tests.samples import (
+    Within, any_values, check_refused, dice, picture, random_question, random_table, ways_by_values,
+)
 
 FRIENDS = Table(("A", 0, 1, 2), ("A", 1, 2, 1), ("A", 1, 1, 3))
 CHAIN = Question(("A", 0, 1), ("A", 1, 2))
 
 
-def ways_by_values(question, table):
-    """The ways with their weights, by trying all values of the table for all variables."""
-    values = sorted({value for row in table.rows for value in row[1:3]})
-    found = []
-    for way in itertools.product(values, repeat=len(question.variables)):
-        worth = dict(zip(question.variables, way))
-        weight = 1
-        for kind, left, right in question.atoms:
-            weight *= table[kind, worth[left], worth[right]]
-        if weight:
-            found.append((way, weight))
-    return found
-
-
 def ways_by_rows(question, table):
-    """The same by trying all rows for all atoms."""
+    """The ways with their weights, by trying all rows for all atoms."""
     found = []
     for rows in itertools.product(table.rows, repeat=len(question)):
         worth = {}
